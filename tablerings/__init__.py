@@ -1,0 +1,1 @@
+"""Tablerings: products that group, and the rooms on which they work."""

@@ -1,0 +1,1 @@
+"""Rows, tables, spaces and polynomials."""

@@ -1,0 +1,1 @@
+"""Rings, their ideals and their idempotents."""

@@ -1,0 +1,124 @@
+"""The examples of the document, word for word: the value, or the error with what it keeps."""
+
+import unittest
+
+from tablerings import errors
+from tablerings.base import polys, spaces
+from tablerings.rings import ideals, idempotents, radical, rings
+
+MODULES = (errors, spaces, polys, rings, ideals, radical, idempotents)
+
+EXAMPLES = """
+>>> F2, U3, K9 = Ring.full(2, 2), Ring.stairs(2, 3), Ring.of_poly(3, (1, 0, 1))
+>>> S3, C4 = Ring.of_moves(2, ((1, 0, 2), (1, 2, 0))), Ring.of_moves(2, ((1, 2, 3, 0),))
+>>> N4 = Ring.of_poly(3, (0, 0, 0, 0, 1))
+>>> [space_of(3, 3, ((1, 2, 0), (2, 1, 0), (0, 1, 1))), is_space(3, 3, ((0, 1, 1), (1, 0, 1))), does_hold(3, 3, ((1, 0, 1), (0, 1, 1)), (1, 1, 2)), space_of(2, 2, ())]
+[((1, 0, 1), (0, 1, 1)), False, True, ()]
+>>> [space_meet(2, 3, ((1, 0, 0), (0, 1, 0)), ((0, 1, 0), (0, 0, 1))), space_sum(2, 3, ((1, 1, 0),), ((0, 1, 1),))]
+[((0, 1, 0),), ((1, 0, 1), (0, 1, 1))]
+>>> [led(5, ((1, 2), (3, 4), (0, 1)), (1, 1, 2)), followed(2, ((1, 1), (0, 1)), ((0, 1), (1, 0)))]
+[(4, 3), ((1, 1), (1, 0))]
+>>> [kernel(2, ((1, 1), (1, 1), (0, 1))), image(2, ((1, 1), (1, 1), (0, 1))), undone_table(5, ((2, 1), (1, 1)))]
+[((1, 1, 0),), ((1, 0), (0, 1)), ((1, 4), (4, 2))]
+>>> [solution(3, ((1, 1), (0, 1)), (1, 2)), solution(3, ((1, 1), (2, 2)), (1, 2)), is_bar(3, ((1, 1), (2, 2)), (1, 2), (1, 2)), bar(3, ((1, 1), (0, 1)), (1, 2))]
+[(1, 1), None, True, None]
+>>> undone_table(2, ((1, 1), (1, 1)))
+raises Refused(('singular',))
+>>> [poly_parts(2, (1, 0, 1, 1), (1, 1)), poly_shared(3, (2, 0, 1), (1, 1)), factors(2, (1, 0, 1)), factors(3, (2, 0, 2)), is_irreducible(2, (1, 0, 1, 0, 1))]
+[((0, 0, 1), (1,)), (1, 1), (1, (((1, 1), 2),)), (2, (((1, 0, 1), 1),)), False]
+>>> [least_poly(2, ((0, 1), (1, 0))), least_poly(5, ((3, 0), (0, 3))), whole_poly(5, ((3, 0), (0, 3))), poly_of_table(3, (1, 1), ((0, 1), (0, 0)))]
+[(1, 0, 1), (2, 1), (4, 4, 1), ((1, 1), (0, 1))]
+>>> [fitting(3, ((0, 1), (0, 0))), fitting(3, ((1, 1), (0, 0))), first_irreducible(2, 3), irreducible_number(2, 6)]
+[(((1, 0), (0, 1)), ()), (((0, 1),), ((1, 1),)), (1, 0, 1, 1), 9]
+>>> poly_parts(2, (1,), ())
+raises Refused(('zero',))
+>>> [F2.one, F2.product((0, 1, 0, 0), (0, 0, 1, 0)), str(F2), F2.many, U3.size, S3.one, C4.power((1, 1, 0, 0), 4)]
+[(1, 0, 0, 1), (1, 0, 0, 0), 'ring of 4 over 2', 16, 6, (1, 0, 0, 0, 0, 0), (0, 0, 0, 0)]
+>>> [K9.product((0, 1), (0, 1)), K9.inverse((1, 1)), K9.is_unit((0, 0)), subring_made(F2, ((0, 1, 0, 0),))]
+[(2, 0), (2, 1), False, ((1, 0, 0, 1), (0, 1, 0, 0))]
+>>> [ring_fault(2, (((1,),),)), ring_fault(2, (((0,),),)), rebased(K9, ((1, 0), (1, 1))).table[1][1]]
+[None, ('one',), (1, 2)]
+>>> U3.inverse((1, 0, 0, 0, 0, 1))
+raises Refused(("no unit",))
+>>> [ideal_made(F2, ((0, 1, 0, 0),), side="left"), ideal_made(F2, ((0, 1, 0, 0),), side="right"), len(ideal_made(F2, ((0, 1, 0, 0),)))]
+[((0, 1, 0, 0), (0, 0, 0, 1)), ((1, 0, 0, 0), (0, 1, 0, 0)), 4]
+>>> [ideal_made(U3, ((0, 1, 0, 0, 0, 0),)), is_ideal(U3, ((0, 0, 1, 0, 0, 0),)), is_ideal(U3, ((0, 1, 0, 0, 0, 0),))]
+[((0, 1, 0, 0, 0, 0), (0, 0, 1, 0, 0, 0)), True, False]
+>>> HALF = ((0, 0, 1, 0), (0, 0, 0, 1))
+>>> [ideal_product(N4, HALF, HALF), quotient_ring(N4, HALF) == Ring.of_poly(3, (0, 0, 1)), quotient_row(N4, HALF, (2, 1, 1, 0))]
+[(), True, (2, 1)]
+>>> [centre(F2), commutators(F2), centralizer(F2, ((0, 1, 0, 0),)), centre(U3), len(killers(U3, ((0, 1, 0, 0, 0, 0),))), killers(N4, HALF)]
+[((1, 0, 0, 1),), ((1, 0, 0, 1), (0, 1, 0, 0), (0, 0, 1, 0)), ((1, 0, 0, 1), (0, 1, 0, 0)), ((1, 0, 0, 1, 0, 1),), 5, ((0, 0, 1, 0), (0, 0, 0, 1))]
+>>> quotient_ring(U3, ((0, 1, 0, 0, 0, 0),))
+raises Refused(('ideal',))
+>>> [radical(F2), radical(S3), radical_sizes(U3), radical_sizes(C4), radical_sizes(N4), radical_sizes(K9)]
+[(), ((1, 1, 1, 1, 1, 1),), (3, 1), (3, 2, 1), (3, 2, 1), ()]
+>>> [[len(space) for space in trace_spaces(S3)], [len(space) for space in trace_spaces(C4)]]
+[[6, 1, 1], [4, 4, 3]]
+>>> [counted(S3, "units"), counted(S3, "nilpotent"), counted(S3, "idempotent"), nil_paper(S3, ((1, 1, 1, 1, 1, 1),))]
+[12, 8, 16, ('power', 2)]
+>>> [is_nil_paper(F2, ((0, 1, 0, 0),), ("stays", 0, (0, 0, 1, 0))), nil_paper(F2, ())]
+[True, ('power', 1)]
+>>> [socle(Ring.stairs(2, 2)), socle(Ring.stairs(2, 2), side="right")]
+[((1, 0, 0), (0, 1, 0)), ((0, 1, 0), (0, 0, 1))]
+>>> [is_idempotent(F2, (1, 1, 0, 0)), is_least_idempotent(F2, (1, 0, 0, 1)), is_parting(F2, ((1, 0, 0, 0), (0, 0, 0, 1))), len(parting(U3)), len(parting(S3))]
+[True, False, True, 3, 3]
+>>> [is_like_paper(F2, (1, 0, 0, 0), (0, 0, 0, 1), ((0, 1, 0, 0), (0, 0, 1, 0))), like_paper(U3, (1, 0, 0, 0, 0, 0), (0, 0, 0, 1, 0, 0)), is_idempotent(U3, led_up(U3, (1, 1, 0, 1, 0, 0)))]
+[True, None, True]
+>>> PAIR = ((1, 0, 0, 0), (0, 0, 0, 1))
+>>> [is_leading_unit(F2, PAIR, PAIR[::-1], ((1, 0, 0, 1), (1, 0))), central_parting(S3), central_parting(K9)]
+[True, ((0, 0, 0, 1, 1, 0), (1, 0, 0, 1, 1, 0)), ((1, 0),)]
+>>> led_up(C4, (0, 1, 0, 1))
+(0, 0, 0, 0)
+>>> led_up(K9, (0, 1))
+raises Refused(("open",))
+"""
+
+
+def names():
+    """All names of the modules, as the examples use them."""
+    known = {}
+    for module in MODULES:
+        known.update({name: value for name, value in vars(module).items() if not name.startswith("_")})
+    return known
+
+
+def told():
+    """The pairs of what is called, and of the row below it, or None where nothing is told."""
+    pairs = []
+    for row in EXAMPLES.strip().split("\n"):
+        if row.startswith(">>> "):
+            pairs.append([row[4:], None])
+        else:
+            pairs[-1][1] = row
+    return pairs
+
+
+def outcome(source, known):
+    """What a call returns, or the error that it raises."""
+    try:
+        return eval(source, known)
+    except Exception as error:
+        return error
+
+
+class ExamplesTest(unittest.TestCase):
+    def test_all(self):
+        known = names()
+        for source, row in told():
+            with self.subTest(source=source):
+                if row is None:
+                    exec(source, known)
+                elif row.startswith("raises "):
+                    expected, found = eval(row[len("raises "):], known), outcome(source, known)
+                    self.assertIs(type(found), type(expected))
+                    self.assertEqual(vars(found), vars(expected))
+                else:
+                    self.assertEqual(repr(outcome(source, known)), repr(eval(row, known)))
+
+    def test_their_number(self):
+        self.assertEqual(len([row for _, row in told() if row is not None]), 29)
+
+
+if __name__ == "__main__":
+    unittest.main()
