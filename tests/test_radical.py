@@ -2,6 +2,7 @@
 
 import unittest
 
+from tablerings.base.polys import first_irreducible
 from tablerings.base.spaces import does_hold, is_space, space_meet, space_of, space_sum
 from tablerings.errors import TooMany
 from tablerings.rings import radical as module
@@ -272,6 +273,15 @@ class PaperTest(unittest.TestCase):
         word, at, by = paper
         self.assertEqual(word, "stays")
         self.assertIs(ring.is_unit(less(ring, ring.one, ring.product(by, members[at]))), False)
+
+    def test_all_members_of_fields(self):
+        for prime in PRIMES:
+            for degree in (1, 2):
+                ring = Ring.of_poly(prime, first_irreducible(prime, degree))
+                for member in rows_of(prime, degree):
+                    paper = nil_paper(ring, (member,))
+                    self.assertIs(is_nil_paper(ring, (member,), paper), True)
+                    self.judge(ring, (member,), paper)
 
     def test_each_right_paper_is_accepted_and_nothing_else(self):
         for prime in PRIMES:
