@@ -32,6 +32,30 @@ FUNCTIONS = {
         "is_idempotent(ring, value)", "is_least_idempotent(ring, value)", "led_up(ring, member)", "parting(ring)",
         "is_parting(ring, value)", "like_paper(ring, one, other)", "is_like_paper(ring, one, other, value)",
         "leading_unit(ring, one, other)", "is_leading_unit(ring, one, other, value)", "central_parting(ring)"),
+    "tablerings.rings.full": (
+        "kinds(ring)", "full_parts(ring)", "part_one(ring, space)", "part_paper(ring, space)",
+        "is_part_paper(ring, space, value)", "part_entries(ring, space, paper, member)", "unit_number(ring)",
+        "nilpotent_number(ring)", "idempotent_kinds(ring)"),
+    "tablerings.rings.split": (
+        "split_subring(ring)", "is_split_subring(ring, value)", "leading_nil(ring, one, other)",
+        "is_leading_nil(ring, one, other, value)", "split_number(ring)"),
+    "tablerings.rooms.rooms": (
+        "subroom_made(room, vectors)", "is_subroom(room, value)", "subroom(room, space)", "quotient_room(room, space)",
+        "turned_room(room)", "rebased_room(room, table)", "room_killers(room)", "vector_killers(room, vector)"),
+    "tablerings.rooms.least": (
+        "room_paper(room)", "is_room_paper(room, value)", "least_rooms(ring)", "are_least_rooms(ring, value)",
+        "list_of(room)", "layers(room)", "socle_layers(room)", "radical_by_rooms(ring)"),
+    "tablerings.rooms.maps": (
+        "maps(room, further)", "map_number(room, further)", "is_map(room, further, value)", "alike_map(room, further)",
+        "is_alike_map(room, further, value)", "split_paper(room)", "is_split_paper(room, value)", "parts(room)",
+        "are_parts(room, value)", "self_ring(room)", "times_in(part, room)", "unlike_paper(room, further)",
+        "is_unlike_paper(room, further, value)"),
+    "tablerings.rooms.free": (
+        "free_rooms(ring)", "free_sum(ring, numbers)", "head_numbers(room)", "cover(room)", "is_cover(room, value)",
+        "cartan(ring)", "blocks_of_rooms(ring)"),
+    "tablerings.rooms.pulled": (
+        "pulled(room)", "pulled_numbers(room, steps)", "pulled_length(room)", "lift_number(room, further, step)",
+        "join_space(room, further)", "plain_joins(room, further)", "joined_room(room, further, join)"),
 }
 
 CONSTANTS = {
@@ -40,13 +64,23 @@ CONSTANTS = {
     "tablerings.rings.rings": {"MAX_SIZE": 9, "MAX_SIDE": 3},
     "tablerings.rings.ideals": {"SIDES": ("left", "right", "both")},
     "tablerings.rings.radical": {"MAX_TRIED": 5000},
+    "tablerings.rooms.rooms": {"MAX_ROOM": 40},
+    "tablerings.rooms.maps": {"MAX_MAP": 144, "MAX_SELF": 40},
+    "tablerings.rooms.free": {"MAX_COVER": 40},
+    "tablerings.rooms.pulled": {"MAX_PULLED": 6, "MAX_STEPS": 8, "MAX_JOINED": 150},
 }
 
-METHODS = ("added(self, one, other)", "product(self, one, other)", "times(self, number, member)",
-           "power(self, member, number)", "is_unit(self, value)", "inverse(self, member)")
-CLASS_METHODS = ("full(cls, prime, side)", "stairs(cls, prime, side)", "of_moves(cls, prime, moves)",
-                 "of_poly(cls, prime, poly)", "both(cls, one, other)")
-PROPERTIES = ("prime", "size", "table", "one", "many")
+CLASSES = {
+    "tablerings.rings.rings": ("Ring", "(prime, table)", (
+        "added(self, one, other)", "product(self, one, other)", "times(self, number, member)",
+        "power(self, member, number)", "is_unit(self, value)", "inverse(self, member)"), (
+        "full(cls, prime, side)", "stairs(cls, prime, side)", "of_moves(cls, prime, moves)", "of_poly(cls, prime, poly)",
+        "both(cls, one, other)"),
+        ("__contains__", "__eq__", "__str__"), ("prime", "size", "table", "one", "many")),
+    "tablerings.rooms.rooms": ("Room", "(ring, tables)", (
+        "led_by(self, member, vector)",), ("own(cls, ring)", "nothing(cls, ring)", "side_by_side(cls, room, further)"),
+        ("__eq__", "__str__"), ("ring", "size", "tables")),
+}
 
 
 class InterfaceTest(unittest.TestCase):
@@ -63,21 +97,34 @@ class InterfaceTest(unittest.TestCase):
             for name, value in told.items():
                 self.assertEqual(getattr(importlib.import_module(module), name), value)
 
-    def test_the_class(self):
-        known = importlib.import_module("tablerings.rings.rings").Ring
-        self.assertEqual(known.__module__, "tablerings.rings.rings")
-        self.assertEqual(str(inspect.signature(known)), "(prime, table)")
-        for row in METHODS:
-            name = row[:row.index("(")]
-            self.assertEqual(name + str(inspect.signature(vars(known)[name])), row)
-        for row in CLASS_METHODS:
-            name = row[:row.index("(")]
-            self.assertIsInstance(vars(known)[name], classmethod)
-            self.assertEqual(name + str(inspect.signature(vars(known)[name].__func__)), row)
-        for name in ("__contains__", "__eq__", "__str__"):
-            self.assertIn(name, vars(known))
-        for name in PROPERTIES:
-            self.assertTrue(hasattr(known.full(2, 2), name))
+    def test_classes(self):
+        for module, (word, signature, methods, class_methods, signs, properties) in CLASSES.items():
+            known = getattr(importlib.import_module(module), word)
+            self.assertEqual(known.__module__, module)
+            self.assertEqual(str(inspect.signature(known)), signature)
+            for row in methods:
+                name = row[:row.index("(")]
+                self.assertEqual(name + str(inspect.signature(vars(known)[name])), row)
+            for row in class_methods:
+                name = row[:row.index("(")]
+                self.assertIsInstance(vars(known)[name], classmethod)
+                self.assertEqual(name + str(inspect.signature(vars(known)[name].__func__)), row)
+            for name in signs:
+                self.assertIn(name, vars(known))
+            for name in properties:
+                self.assertIsInstance(vars(known)[name], property)
+                self.assertTrue(hasattr(self.sample(word), name))
+
+    def sample(self, word):
+        """An object of a class."""
+        ring = importlib.import_module("tablerings.rings.rings").Ring.full(2, 2)
+        return ring if word == "Ring" else importlib.import_module("tablerings.rooms.rooms").Room.own(ring)
+
+    def test_properties_are_not_set(self):
+        for word, names in (("Ring", ("prime", "size", "table", "one", "many")), ("Room", ("ring", "size", "tables"))):
+            for name in names:
+                with self.assertRaises(AttributeError):
+                    setattr(self.sample(word), name, 1)
 
     def test_errors_stand_in_their_module(self):
         errors = importlib.import_module("tablerings.errors")

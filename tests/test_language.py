@@ -85,6 +85,8 @@ def local_names(tree):
             yield node.lineno, node.arg
         elif isinstance(node, ast.Name) and isinstance(node.ctx, ast.Store) and not isinstance(node.above.above, ast.Module):
             yield node.lineno, node.id
+        elif isinstance(node, ast.FunctionDef) and isinstance(node.above, ast.FunctionDef):
+            yield node.lineno, node.name
 
 
 class LanguageTest(unittest.TestCase):

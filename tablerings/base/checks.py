@@ -1,6 +1,6 @@
 """Whether values have the form that is asked for."""
 
-from tablerings.base.lines import at_places, lead_from, unit_rows
+from tablerings.base.lines import at_places, leads_of, unit_rows
 from tablerings.errors import InvalidNumber, InvalidOperation
 
 PRIMES = (2, 3, 5, 7)
@@ -26,14 +26,20 @@ def is_row(prime, width, value):
     """Whether a value is a row of the width."""
     if not isinstance(value, tuple) or len(value) != width:
         return False
-    return all([is_integer(number) and 0 <= number < prime for number in value])
+    for number in value:
+        if not isinstance(number, int) or number is True or number is False or not 0 <= number < prime:
+            return False
+    return True
 
 
 def are_rows(prime, width, value, most):
     """Whether a value is a tuple of at most so many rows of the width."""
     if not isinstance(value, tuple) or len(value) > most:
         return False
-    return all([is_row(prime, width, row) for row in value])
+    for row in value:
+        if not is_row(prime, width, row):
+            return False
+    return True
 
 
 def is_square(prime, count, value):
@@ -45,10 +51,8 @@ def is_base(prime, width, value):
     """Whether a value is the reduced base of a space of rows of the width."""
     if not are_rows(prime, width, value, width):
         return False
-    leads = [lead_from(row, 0) for row in value]
-    if any([at == width for at in leads]):
-        return False
-    if not all([one < other for one, other in zip(leads, leads[1:])]):
+    leads = leads_of(value)
+    if width in leads or not all([one < other for one, other in zip(leads, leads[1:])]):
         return False
     # What stands at the leads tells both the 1 and the 0s that are asked for.
     return tuple([at_places(row, leads) for row in value]) == unit_rows(len(leads))

@@ -3,7 +3,7 @@
 Rows are tuples of residues; several rows are a list or a tuple of rows of one width.
 """
 
-from tablerings.base.counting import undone_number
+from tablerings.base.lanes import LANE, Echelon, packed, unpacked
 
 
 def zero_row(width):
@@ -34,11 +34,6 @@ def row_less(prime, one, other):
 def row_times(prime, number, row):
     """The row multiplied by a number."""
     return tuple([number * a % prime for a in row])
-
-
-def row_less_times(prime, row, number, other):
-    """The first row less so many times the second one."""
-    return tuple([(a - number * b) % prime for a, b in zip(row, other)])
 
 
 def combined(prime, width, numbers, rows):
@@ -79,92 +74,81 @@ def lead_from(row, start):
     return len(row)
 
 
-def row_beyond(prime, steps, row):
-    """The row less multiples of steps, so that it is 0 at each of their leads.
-
-    Steps are a dict from leads to rows that have their first 1 there and 0 before it.
-    """
-    at = lead_from(row, 0)
-    while at < len(row):
-        if at in steps:
-            row = row_less_times(prime, row, row[at], steps[at])
-        at = lead_from(row, at + 1)
-    return row
+def leads_of(base):
+    """The leads of the rows of a reduced base."""
+    return [lead_from(row, 0) for row in base]
 
 
-def steps_of(base):
-    """The steps of rows each of which has 1 at its lead, all leads being unlike."""
-    return {lead_from(row, 0): row for row in base}
-
-
-def stepped(prime, rows):
-    """Steps with the same sums as some rows."""
-    steps = {}
-    for row in rows:
-        rest = row_beyond(prime, steps, row)
-        at = lead_from(rest, 0)
-        if at < len(rest):
-            steps[at] = row_times(prime, undone_number(prime, rest[at]), rest)
-    return steps
+def echelon_of(prime, width, rows):
+    """The echelon of the sums of some rows of the width."""
+    found = Echelon(prime, width)
+    # Rows that are told more than once, as products often are, are added once.
+    found.take_all([packed(row) for row in {row: True for row in rows}])
+    return found
 
 
 def reduced(prime, rows):
     """The reduced base of the space of all sums of some rows."""
-    steps = stepped(prime, rows)
-    done = {}
-    # From the last lead back, each row meets only rows that are reduced already.
-    for at in sorted(steps, reverse=True):
-        done[at] = row_beyond(prime, done, steps[at])
-    return tuple([done[at] for at in sorted(done)])
+    if not rows:
+        return ()
+    width = len(rows[0])
+    return echelon_of(prime, width, rows).base(width)
 
 
 def remainder(prime, base, row):
     """The row less multiples of a reduced base, so that it is 0 at all leads."""
-    return row_beyond(prime, steps_of(base), row)
+    return row_less(prime, row, combined(prime, len(row), at_places(row, leads_of(base)), base))
 
 
 def is_within(prime, base, rows):
     """Whether all of some rows lie in the space of a reduced base."""
-    steps = steps_of(base)
-    return all([row_beyond(prime, steps, row) == zero_row(len(row)) for row in rows])
+    leads = leads_of(base)
+    for row in {row: True for row in rows}:
+        if combined(prime, len(row), at_places(row, leads), base) != row:
+            return False
+    return True
 
 
-def rows_and_units(rows):
-    """Each row with the unit row of its index behind it, so that it is kept which sum was made."""
-    return [row + unit_row(len(rows), at) for at, row in enumerate(rows)]
+def told_echelon(prime, width, numbers):
+    """The echelon of rows, told by numbers, with the unit row of the index behind each: it tells which sum was made."""
+    count = len(numbers)
+    found = Echelon(prime, width + count)
+    found.take_all([(number << count * LANE) + (1 << (count - at - 1) * LANE) for at, number in enumerate(numbers)])
+    return found
 
 
-def tails(prime, width, steps):
-    """The reduced base of what stands behind the width in the steps that are 0 before it."""
-    return reduced(prime, [steps[at][width:] for at in steps if at >= width])
+def kernel_of(prime, width, numbers):
+    """The space of the rows of numbers with which some rows of the width, told by numbers, add up to 0."""
+    return told_echelon(prime, width, numbers).base(len(numbers))
 
 
 def kernel_rows(prime, rows):
     """The space of the rows that a table of at least one row leads to 0."""
-    return tails(prime, len(rows[0]), stepped(prime, rows_and_units(rows)))
+    return kernel_of(prime, len(rows[0]), [packed(row) for row in rows])
 
 
 def meet_rows(prime, width, one, other):
     """The space of the rows that are sums of the first rows, and of the second ones, too."""
     rows = [row + row for row in one] + [row + zero_row(width) for row in other]
-    return tails(prime, width, stepped(prime, rows))
+    return echelon_of(prime, 2 * width, rows).base(width)
 
 
 def solved(prime, rows, row):
     """A row that a table leads to the given one, or None."""
-    width = len(row)
-    steps = stepped(prime, rows_and_units(rows))
-    low = {at: steps[at] for at in steps if at < width}
-    rest = row_beyond(prime, low, row + zero_row(len(rows)))
-    if lead_from(rest, 0) < width:
+    count = len(rows)
+    found = told_echelon(prime, len(row), [packed(line) for line in rows])
+    rest = found.rest(packed(row) << count * LANE)
+    if rest >> count * LANE:
         return None
-    return tuple([-number % prime for number in rest[width:]])
+    return tuple([-number % prime for number in unpacked(count, rest)])
 
 
 def undone_rows(prime, rows):
     """The table that undoes a square one, or None if it is singular."""
     count = len(rows)
-    both = reduced(prime, rows_and_units(rows))
+    if count == 0:
+        return ()
+    both = told_echelon(prime, count, [packed(row) for row in rows]).base(2 * count)
     if lead_from(both[-1], 0) >= count:
         return None
     return tuple([row[count:] for row in both])
@@ -177,8 +161,8 @@ def row_product(prime, one, other):
 
 def free_places(width, base):
     """The places that are no leads of a reduced base, ascending."""
-    steps = steps_of(base)
-    return [at for at in range(width) if at not in steps]
+    leads = leads_of(base)
+    return [at for at in range(width) if at not in leads]
 
 
 def all_rows(prime, width):

@@ -3,21 +3,20 @@
 Below, nil is the space J of the ring. A corner e R e of an idempotent e is a ring by itself with the one e.
 """
 
-from tablerings.base.lines import (
-    combined, is_within, kernel_rows, reduced, remainder, row_less, row_sum, row_times, unit_rows, zero_row,
-)
-from tablerings.rings.settled import settler
+from tablerings.base.lines import combined, is_within, reduced, row_less, solved, unit_rows, zero_row
+from tablerings.base.polywork import factor_pairs, product_of_polys, rest_of_poly
+from tablerings.base.splitting import first_told, order_poly, poly_led, undone_poly
 
 
 def corner(ring, one, other):
     """The space of all products of one member, any member and another one."""
-    rows = [ring.product(ring.product(one, unit), other) for unit in unit_rows(ring.size)]
-    return reduced(ring.prime, rows)
+    return corner_of(ring, unit_rows(ring.size), one, other)
 
 
-def nil_of_corner(ring, nil, whole):
-    """J of the corner of an idempotent."""
-    return reduced(ring.prime, [ring.product(ring.product(whole, row), whole) for row in nil])
+def corner_of(ring, rows, one, other):
+    """The space of all products of one member, a sum of some members and another one."""
+    ahead = reduced(ring.prime, [ring.bare_product(one, row) for row in rows])
+    return reduced(ring.prime, [ring.bare_product(row, other) for row in ahead])
 
 
 def rows_modulo(prime, low, space):
@@ -29,61 +28,45 @@ def rows_modulo(prime, low, space):
     return kept
 
 
-def do_commute(ring, low, rows):
-    """Whether all of some members commute modulo a space."""
-    products = [(ring.product(one, other), ring.product(other, one)) for one in rows for other in rows]
-    return is_within(ring.prime, low, [row_less(ring.prime, ahead, behind) for ahead, behind in products])
+def part_by(ring, whole, member, degree):
+    """What a member of the corner of an idempotent tells of it.
+
+    An idempotent of the corner other than 0 and the whole, if the polynomial of the member has unlike factors; 0 if its
+    one factor has the degree, so that the powers of the member are, modulo J, all of the corner; None otherwise.
+    """
+    lines = ring.ahead_lines(member)
+    pairs = factor_pairs(ring.prime, order_poly(ring.prime, lines, whole))
+    if len(pairs) == 1:
+        return zero_row(ring.size) if len(pairs[0][0]) == degree + 1 else None
+    powers = [power_of_poly(ring.prime, factor, times) for factor, times in pairs]
+    first = powers[0]
+    others = powers[1]
+    for power in powers[2:]:
+        others = product_of_polys(ring.prime, others, power)
+    # Modulo the others this polynomial is 1, and modulo the first power it is 0.
+    told = product_of_polys(ring.prime, first, undone_poly(ring.prime, rest_of_poly(ring.prime, first, others), others))
+    return poly_led(ring.prime, told, lines, whole)
 
 
-def fixed_rows(ring, low, rows):
-    """A base of the sums of rows that are their own power by the prime, where the rows commute modulo a space."""
-    prime = ring.prime
-    changes = [row_less(prime, ring.power(row, prime), row) for row in rows]
-    sums = kernel_rows(prime, [remainder(prime, low, change) for change in changes])
-    return [combined(prime, ring.size, numbers, rows) for numbers in sums]
-
-
-def first_no_unit(ring, whole, rows):
-    """A sum of multiples of rows, not of 0 alone, that is no unit of the corner of an idempotent."""
-    rest = row_less(ring.prime, ring.one, whole)
-    sums = [zero_row(ring.size)]
-    # A sum is a unit of the corner exactly if it is one of the ring beside what the idempotent leaves of the one.
-    # If many rows have only units as sums, each least room of the corner is as large, so this ends soon.
-    for row in rows:
-        for low in sums:
-            found = row_sum(ring.prime, low, row)
-            if not ring.is_unit(row_sum(ring.prime, rest, found)):
-                return found
-        multiples = [row_times(ring.prime, number, row) for number in range(ring.prime)]
-        sums = [row_sum(ring.prime, low, high) for low in sums for high in multiples]
-    return None
+def power_of_poly(prime, poly, times):
+    """The product of so many times a polynomial."""
+    power = (1,)
+    for _ in range(times):
+        power = product_of_polys(prime, power, poly)
+    return power
 
 
 def split_of(ring, nil, whole):
     """An idempotent of the corner of an idempotent, other than 0 and this one; None if it is least."""
-    low = nil_of_corner(ring, nil, whole)
+    low = corner_of(ring, nil, whole, whole)
     rows = rows_modulo(ring.prime, low, corner(ring, whole, whole))
-    if do_commute(ring, low, rows):
-        # Modulo J the corner is a product of fields, one for each of the fixed rows.
-        rows = fixed_rows(ring, low, rows)
-        if len(rows) == 1:
-            return None
-    blocked = first_no_unit(ring, whole, rows)
-    # The products of the makers by what is no unit and not in J cannot all have a power 0: their traces would tell.
-    makers = [ring.product(whole, unit) for unit in unit_rows(ring.size)]
-    return ring.product(settler(ring, makers, blocked), blocked)
-
-
-def is_square_of_itself(ring, member):
-    """Whether a member is an idempotent."""
-    return ring.product(member, member) == member
-
-
-def is_least_of(ring, nil, member):
-    """Whether a member is a least idempotent."""
-    if member == zero_row(ring.size) or not is_square_of_itself(ring, member):
-        return False
-    return split_of(ring, nil, member) is None
+    degree = len(rows)
+    if degree == 1:
+        return None
+    # If the corner modulo J is a field, some base member of it or the sum of two tells so, as no two spaces other than
+    # the whole have all of these in them. Otherwise it has idempotents.
+    part = first_told(ring.prime, ring.size, rows, lambda row: part_by(ring, whole, row, degree), 1)
+    return None if part == zero_row(ring.size) else part
 
 
 def least_parts(ring, nil, whole):
@@ -101,26 +84,27 @@ def least_parts(ring, nil, whole):
     return tuple(done)
 
 
-def link(ring, one, other):
+def link(ring, nil, one, other):
     """A pair of members whose products are the one and the other least idempotent; None if there is none."""
-    makers = corner(ring, one, other)
     for back in corner(ring, other, one):
-        ahead = settler(ring, makers, back)
-        if ahead is not None:
-            return (ahead, back)
+        # What is not in J leads each room of the one idempotent to one of the other, one to one.
+        if not is_within(ring.prime, nil, (back,)):
+            rows = corner(ring, one, other)
+            numbers = solved(ring.prime, [ring.bare_product(row, back) for row in rows], one)
+            return (combined(ring.prime, ring.size, numbers, rows), back)
     return None
 
 
-def first_link(ring, one, others, free):
+def first_link(ring, nil, one, others, free):
     """The first of some indices at which a least idempotent stands that is like the given one, and a link to it."""
     for at in free:
-        pair = link(ring, one, others[at])
+        pair = link(ring, nil, one, others[at])
         if pair is not None:
             return (at, pair[0], pair[1])
     return None
 
 
-def links(ring, ones, others):
+def links(ring, nil, ones, others):
     """For each of the first least idempotents the index of one of the second ones, and a link to it.
 
     Each of the second ones is taken at most once; None if some first one finds none.
@@ -129,7 +113,7 @@ def links(ring, ones, others):
     free = list(range(len(others)))
     for one in ones:
         # Likeness goes on from one to the next, so it does not matter which of several like ones is taken.
-        told = first_link(ring, one, others, free)
+        told = first_link(ring, nil, one, others, free)
         if told is None:
             return None
         free.remove(told[0])

@@ -5,7 +5,7 @@ from tablerings.base.lines import (
     at_places, flat, free_places, is_within, kernel_rows, reduced, remainder, row_less, unit_rows,
 )
 from tablerings.errors import Refused
-from tablerings.rings.rings import Ring, check_member, check_member_space, check_members, check_ring
+from tablerings.rings.rings import check_member, check_member_space, check_members, check_ring, sound_ring
 
 SIDES = ("left", "right", "both")
 ONE_SIDES = ("left", "right")
@@ -13,7 +13,7 @@ ONE_SIDES = ("left", "right")
 
 def product_rows(ring, ones, others):
     """All products of one of the first members and one of the second ones."""
-    return [ring.product(one, other) for one in ones for other in others]
+    return [ring.bare_product(one, other) for one in ones for other in others]
 
 
 def ideal_made(ring, members, *, side="both"):
@@ -71,8 +71,8 @@ def quotient_ring(ring, space):
     check_divided(ring, space)
     units = unit_rows(ring.size)
     base = [units[at] for at in free_places(ring.size, space)]
-    table = [tuple([class_row(ring, space, ring.product(one, other)) for other in base]) for one in base]
-    return Ring(ring.prime, tuple(table))
+    table = [tuple([class_row(ring, space, ring.bare_product(one, other)) for other in base]) for one in base]
+    return sound_ring(ring.prime, tuple(table), class_row(ring, space, ring.one))
 
 
 def quotient_row(ring, space, member):
@@ -86,7 +86,7 @@ def quotient_row(ring, space, member):
 
 def unlike_products(ring, one, other):
     """The product of two members less that the other way round."""
-    return row_less(ring.prime, ring.product(one, other), ring.product(other, one))
+    return row_less(ring.prime, ring.bare_product(one, other), ring.bare_product(other, one))
 
 
 def commuting(ring, members):

@@ -1,12 +1,16 @@
 """Idempotents of a ring, how the one is parted into least ones, and which of them are like."""
 
 from tablerings.base.checks import is_integer
-from tablerings.base.lines import combined, is_within, row_less, row_times, zero_row
+from tablerings.base.lines import is_within, row_less, row_times, zero_row
 from tablerings.errors import InvalidOperation, Refused
-from tablerings.rings.corners import is_least_of, is_square_of_itself, least_parts, links, sum_of_all
-from tablerings.rings.ideals import centre
-from tablerings.rings.radical import radical
-from tablerings.rings.rings import check_member, check_ring, ring_of_subring
+from tablerings.rings.corners import least_parts, links, sum_of_all
+from tablerings.rings.frames import central_sums, frame_of, least_number, nil_of
+from tablerings.rings.rings import check_member, check_ring
+
+
+def is_square_of_itself(ring, member):
+    """Whether a member is an idempotent."""
+    return ring.bare_product(member, member) == member
 
 
 def is_idempotent(ring, value):
@@ -18,13 +22,13 @@ def is_idempotent(ring, value):
 def is_least_idempotent(ring, value):
     """Whether a value is a least idempotent."""
     check_ring(ring)
-    return value in ring and is_least_of(ring, radical(ring), value)
+    return value in ring and is_square_of_itself(ring, value) and least_number(ring, value) == 1
 
 
 def raised(ring, member):
     """Three squares less two cubes of a member."""
-    square = ring.product(member, member)
-    cube = ring.product(square, member)
+    square = ring.bare_product(member, member)
+    cube = ring.bare_product(square, member)
     return row_less(ring.prime, row_times(ring.prime, 3, square), row_times(ring.prime, 2, cube))
 
 
@@ -32,8 +36,8 @@ def led_up(ring, member):
     """An idempotent that is a member less a member of J."""
     check_ring(ring)
     check_member(ring, member)
-    gap = row_less(ring.prime, ring.product(member, member), member)
-    if not is_within(ring.prime, radical(ring), (gap,)):
+    gap = row_less(ring.prime, ring.bare_product(member, member), member)
+    if not is_within(ring.prime, nil_of(ring), (gap,)):
         raise Refused(("open",))
     found = member
     while not is_square_of_itself(ring, found):
@@ -44,23 +48,23 @@ def led_up(ring, member):
 def parting(ring):
     """Least idempotents that add up to the one, all their products being 0."""
     check_ring(ring)
-    return least_parts(ring, radical(ring), ring.one)
+    return frame_of(ring).parting
 
 
 def is_parting(ring, value):
     """Whether a value is a parting."""
     check_ring(ring)
-    # Idempotents with the products 0 are independent, so there are no more of them than base members.
-    if not isinstance(value, tuple) or len(value) > ring.size:
+    # All partings are of one length, and idempotents with these products and sum that are as many are least.
+    if not isinstance(value, tuple) or len(value) != len(frame_of(ring).parting):
         return False
     if not all([member in ring for member in value]) or sum_of_all(ring, value) != ring.one:
         return False
     nothing = zero_row(ring.size)
-    places = range(len(value))
-    if any([ring.product(value[i], value[j]) != nothing for i in places for j in places if i != j]):
-        return False
-    nil = radical(ring)
-    return all([is_least_of(ring, nil, member) for member in value])
+    for at, one in enumerate(value):
+        made = [ring.bare_product(one, other) for other in value]
+        if made != [one if at == place else nothing for place in range(len(value))] or one == nothing:
+            return False
+    return True
 
 
 def check_idempotents(ring, one, other):
@@ -75,10 +79,10 @@ def check_idempotents(ring, one, other):
 def like_paper(ring, one, other):
     """Two members whose products are the one and the other idempotent, or None."""
     check_idempotents(ring, one, other)
-    nil = radical(ring)
+    nil = nil_of(ring)
     ones = least_parts(ring, nil, one)
     others = least_parts(ring, nil, other)
-    found = links(ring, ones, others)
+    found = links(ring, nil, ones, others)
     if found is None or len(ones) != len(others):
         return None
     return (sum_of_all(ring, [told[1] for told in found]), sum_of_all(ring, [told[2] for told in found]))
@@ -89,7 +93,7 @@ def is_like_paper(ring, one, other, value):
     check_idempotents(ring, one, other)
     if not isinstance(value, tuple) or len(value) != 2 or value[0] not in ring or value[1] not in ring:
         return False
-    return ring.product(value[0], value[1]) == one and ring.product(value[1], value[0]) == other
+    return ring.bare_product(value[0], value[1]) == one and ring.bare_product(value[1], value[0]) == other
 
 
 def check_partings(ring, one, other):
@@ -102,7 +106,7 @@ def check_partings(ring, one, other):
 def leading_unit(ring, one, other):
     """A unit and a renaming that lead the one parting to the other one."""
     check_partings(ring, one, other)
-    found = links(ring, one, other)
+    found = links(ring, nil_of(ring), one, other)
     return (sum_of_all(ring, [told[1] for told in found]), tuple([told[0] for told in found]))
 
 
@@ -116,13 +120,10 @@ def is_leading_unit(ring, one, other, value):
         return False
     if sorted(renaming) != list(range(len(one))):
         return False
-    return all([ring.product(one[i], unit) == ring.product(unit, other[at]) for i, at in enumerate(renaming)])
+    return all([ring.bare_product(one[i], unit) == ring.bare_product(unit, other[at]) for i, at in enumerate(renaming)])
 
 
 def central_parting(ring):
     """The ascending idempotents other than 0 that commute with all members and are no sums of two such."""
     check_ring(ring)
-    space = centre(ring)
-    # A ring that commutes has just one parting, but for the sequence.
-    found = parting(ring_of_subring(ring, space))
-    return tuple(sorted([combined(ring.prime, ring.size, numbers, space) for numbers in found]))
+    return central_sums(ring)

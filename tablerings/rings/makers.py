@@ -26,6 +26,11 @@ def table_of_places(places):
     return tuple([tuple([place_product(places, one, other) for other in places]) for one in places])
 
 
+def one_of_places(places):
+    """The table that has 1 at the places with equal indices and 0 elsewhere."""
+    return tuple([1 if row == column else 0 for row, column in places])
+
+
 def is_renaming(value, count):
     """Whether a tuple of integers has each of the integers below a count once."""
     return sorted(value) == list(range(count))

@@ -1,39 +1,8 @@
 """Products that are told by a table of products. Nothing is checked here, and the table need not be that of a ring."""
 
 from tablerings.base.checks import is_square
+from tablerings.base.lanes import LANE, Lanes, joined, packed, summed
 from tablerings.base.lines import at_places, combined, flat, solved, unit_rows
-
-
-def multiplied(prime, table, one, other):
-    """The product of two members."""
-    total = [0] * len(table)
-    for number, rows in zip(one, table):
-        if number:
-            for times, row in zip(other, rows):
-                if times:
-                    total = [a + number * times * b for a, b in zip(total, row)]
-    return tuple([a % prime for a in total])
-
-
-def power_of(prime, table, unit, member, number):
-    """The product of so many times a member, the unit being that of none."""
-    power = unit
-    square = member
-    rest = number
-    while rest:
-        if rest % 2 == 1:
-            power = multiplied(prime, table, power, square)
-        rest = rest // 2
-        # The last square would be of no use.
-        if rest:
-            square = multiplied(prime, table, square, square)
-    return power
-
-
-def inverse_of(prime, table, unit, member):
-    """The member with which the product is the unit, or None."""
-    rows = [multiplied(prime, table, member, row) for row in unit_rows(len(table))]
-    return solved(prime, rows, unit)
 
 
 def is_product_table(prime, value, most):
@@ -43,15 +12,26 @@ def is_product_table(prime, value, most):
     return all([is_square(prime, len(value), rows) for rows in value])
 
 
+def lines_of_products(table):
+    """The numbers of the products of base members."""
+    return [[packed(row) for row in rows] for rows in table]
+
+
 def ungrouped(prime, table):
     """The least triple of base members whose products do not group, or None."""
     size = len(table)
+    lanes = Lanes(prime, size * size)
+    lines = lines_of_products(table)
+    # Both products of a pair with all third members are compared at once, the third members side by side.
+    wholes = [joined(size, line) for line in lines]
+    columns = [[joined(size, [row[at] for row in rows]) for at in range(size)] for rows in table]
     for one in range(size):
         for other in range(size):
-            for last in range(size):
-                first = combined(prime, size, table[one][other], [rows[last] for rows in table])
-                if first != combined(prime, size, table[other][last], table[one]):
-                    return (one, other, last)
+            first = lanes.settled(summed(table[one][other], wholes))
+            second = lanes.settled(summed(columns[other], lines[one]))
+            if first != second:
+                lane = (first ^ second).bit_length() // LANE
+                return (one, other, (size * size - 1 - lane) // size)
     return None
 
 
@@ -62,7 +42,7 @@ def one_of(prime, table):
     if found is None:
         return None
     # If there is a one, no other member is the one on the left, so what was found is it.
-    if any([multiplied(prime, table, unit, found) != unit for unit in units]):
+    if any([combined(prime, len(table), found, rows) != unit for rows, unit in zip(table, units)]):
         return None
     return found
 
@@ -77,6 +57,6 @@ def fault_of(prime, table):
     return None
 
 
-def table_at(prime, table, base, places):
-    """The table of the products of base rows, each told by what stands at some places."""
-    return tuple([tuple([at_places(multiplied(prime, table, one, other), places) for other in base]) for one in base])
+def table_at(ring, base, places):
+    """The table of the products of base rows of a ring, each told by what stands at some places."""
+    return tuple([tuple([at_places(ring.bare_product(one, other), places) for other in base]) for one in base])

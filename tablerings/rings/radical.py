@@ -1,9 +1,9 @@
 """What comes to nothing: the greatest ideal of a ring some power of which is 0."""
 
 from tablerings.base.checks import check_word, is_from_to, is_integer
-from tablerings.base.lines import all_rows, all_sums, combined, is_within, kernel_rows, reduced, row_less, unit_rows
-from tablerings.base.polywork import number_product, number_trace
+from tablerings.base.lines import all_rows, all_sums, is_within, reduced, row_less
 from tablerings.errors import TooMany
+from tablerings.rings.frames import nil_of, trace_spaces_kept
 from tablerings.rings.ideals import ONE_SIDES, ideal_made, ideal_product, killers
 from tablerings.rings.rings import check_members, check_ring
 from tablerings.rings.settled import has_power_zero, settler
@@ -18,45 +18,16 @@ def check_tried(ring):
         raise TooMany(MAX_TRIED)
 
 
-def power_trace(ring, member, number):
-    """The trace of so many times the table, as one of integers, that multiplies by a member on the left."""
-    rows = [list(ring.product(member, unit)) for unit in unit_rows(ring.size)]
-    power = rows
-    for _ in range(number - 1):
-        power = number_product(power, rows)
-    return number_trace(power)
-
-
-def next_trace_space(ring, space, number):
-    """The members of a space with multiples of the prime where the traces of their products are divided by a number."""
-    units = unit_rows(ring.size)
-    rows = []
-    for row in space:
-        traces = [power_trace(ring, ring.product(row, unit), number) for unit in units]
-        rows.append(tuple([value // number % ring.prime for value in traces]))
-    if not rows:
-        return ()
-    sums = kernel_rows(ring.prime, rows)
-    return reduced(ring.prime, [combined(ring.prime, ring.size, numbers, space) for numbers in sums])
-
-
 def trace_spaces(ring):
     """The spaces that are cut out by traces of powers by 1, the prime, and so on; the last one is J."""
     check_ring(ring)
-    spaces = []
-    space = unit_rows(ring.size)
-    number = 1
-    while number <= ring.size:
-        space = next_trace_space(ring, space, number)
-        spaces.append(space)
-        number = number * ring.prime
-    return tuple(spaces)
+    return trace_spaces_kept(ring)
 
 
 def radical(ring):
     """The space J."""
     check_ring(ring)
-    return trace_spaces(ring)[-1]
+    return nil_of(ring)
 
 
 def all_less_are_units(ring, units, space):
@@ -120,7 +91,7 @@ def counted(ring, what):
         return len([member for member in members if ring.is_unit(member)])
     if what == "nilpotent":
         return len([member for member in members if has_power_zero(ring, member)])
-    return len([member for member in members if ring.product(member, member) == member])
+    return len([member for member in members if ring.bare_product(member, member) == member])
 
 
 def power_zero(ring, space):
@@ -140,13 +111,11 @@ def nil_paper(ring, members):
     """A paper that the ideal made by some members has a power 0, or that a member of them stays."""
     check_ring(ring)
     check_members(ring, members)
-    units = unit_rows(ring.size)
     low = ()
     for at, member in enumerate(members):
         # Sums of members of J are in J, so just what is no such sum is tried.
         if not is_within(ring.prime, low, (member,)):
-            # If no base member is a maker, the traces of [5.2] are all such that the member is in J.
-            found = settler(ring, units, member)
+            found = settler(ring, member)
             if found is not None:
                 return ("stays", at, found)
             low = reduced(ring.prime, low + (member,))
@@ -157,7 +126,7 @@ def is_staying(ring, members, at, by):
     """Whether the one less the product of a member and the one with an index is no unit."""
     if not is_from_to(at, 0, len(members) - 1) or by not in ring:
         return False
-    return not ring.is_unit(row_less(ring.prime, ring.one, ring.product(by, members[at])))
+    return not ring.is_unit(row_less(ring.prime, ring.one, ring.bare_product(by, members[at])))
 
 
 def is_nil_paper(ring, members, value):

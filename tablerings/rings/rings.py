@@ -4,8 +4,9 @@ from tablerings.base.checks import (
     are_rows, check_from_to, check_prime, is_base, is_from_to, is_integer, is_row, is_short_integer, is_square,
 )
 from tablerings.base.counting import powered
+from tablerings.base.lanes import FULL_LANE, Echelon, Lanes, summed, unpacked
 from tablerings.base.lines import (
-    is_within, reduced, row_sum, row_times, rows_followed, steps_of, undone_rows,
+    at_places, combined, is_within, leads_of, reduced, row_sum, row_times, rows_followed, solved, undone_rows, unit_row,
 )
 from tablerings.base.polywork import is_some_poly
 from tablerings.errors import (
@@ -13,20 +14,25 @@ from tablerings.errors import (
     TooMany,
 )
 from tablerings.rings.makers import (
-    full_places, group_of, is_renaming, stairs_places, table_of_both, table_of_group, table_of_places, table_of_poly,
+    full_places, group_of, is_renaming, one_of_places, stairs_places, table_of_both, table_of_group, table_of_places,
+    table_of_poly,
 )
-from tablerings.rings.products import (
-    fault_of, inverse_of, is_product_table, multiplied, one_of, power_of, table_at,
-)
+from tablerings.rings.products import fault_of, is_product_table, lines_of_products, one_of, table_at
 
 MAX_SIZE = 9
 MAX_SIDE = 3
 MAX_MOVES = 3
 MAX_MEMBERS = 100
+# Where the lanes of a member end, as many of the last ones as it has.
+SHIFTS = (192, 168, 144, 120, 96, 72, 48, 24, 0)
+LEAST_TABLE = (((1,),),)
 
 
 class Ring:
-    """A ring, told by its prime and the products of its base members."""
+    """A ring, told by its prime and the products of its base members.
+
+    What is found of a ring by long ways is kept in `found`, so that it is found once; this changes no answer.
+    """
 
     def __init__(self, prime, table):
         check_prime(prime)
@@ -36,7 +42,8 @@ class Ring:
         self._prime = prime
         self._table = table
         self._one = one_of(prime, table)
-        self._many = powered(prime, len(table))
+        self._lines = lines_of_products(table)
+        self.found = {}
 
     @property
     def prime(self):
@@ -61,7 +68,7 @@ class Ring:
     @property
     def many(self):
         """The number of the members."""
-        return self._many
+        return powered(self._prime, len(self._table))
 
     def added(self, one, other):
         """The sum of two members."""
@@ -71,9 +78,22 @@ class Ring:
 
     def product(self, one, other):
         """The product of two members."""
-        check_member(self, one)
-        check_member(self, other)
-        return multiplied(self._prime, self._table, one, other)
+        if not is_row(self._prime, len(self._table), one) or not is_row(self._prime, len(self._table), other):
+            raise InvalidRow("no member of the ring")
+        return self.bare_product(one, other)
+
+    def bare_product(self, one, other):
+        """The product of what is known to be two members."""
+        total = 0
+        for number, line in zip(one, self._lines):
+            if number:
+                part = 0
+                for times, made in zip(other, line):
+                    if times:
+                        part += times * made
+                total += number * part
+        prime = self._prime
+        return tuple([(total >> shift) % FULL_LANE % prime for shift in SHIFTS[-len(one):]])
 
     def times(self, number, member):
         """The sum of so many times a member."""
@@ -87,16 +107,42 @@ class Ring:
         check_member(self, member)
         if not is_short_integer(number) or number < 0:
             raise InvalidNumber(number)
-        return power_of(self._prime, self._table, self._one, member, number)
+        return self.bare_power(member, number)
+
+    def bare_power(self, member, number):
+        """The product of so many times what is known to be a member."""
+        power = self._one
+        square = member
+        rest = number
+        while rest:
+            if rest % 2 == 1:
+                power = self.bare_product(power, square)
+            rest = rest // 2
+            # The last square would be of no use.
+            if rest:
+                square = self.bare_product(square, square)
+        return power
+
+    def ahead_lines(self, member):
+        """The numbers of the products of a member and each base member behind it."""
+        lanes = Lanes(self._prime, len(self._table))
+        return [lanes.settled(summed(member, [line[at] for line in self._lines])) for at in range(len(member))]
 
     def is_unit(self, value):
         """Whether a value is a member and a unit."""
-        return value in self and inverse_of(self._prime, self._table, self._one, value) is not None
+        if value not in self:
+            return False
+        found = Echelon(self._prime, len(self._table))
+        for line in self.ahead_lines(value):
+            if not found.take(line):
+                return False
+        return True
 
     def inverse(self, member):
         """The member with which the product of a member is the one on both sides."""
         check_member(self, member)
-        found = inverse_of(self._prime, self._table, self._one, member)
+        rows = [unpacked(len(member), line) for line in self.ahead_lines(member)]
+        found = solved(self._prime, rows, self._one)
         if found is None:
             raise Refused(("no unit",))
         return found
@@ -106,14 +152,16 @@ class Ring:
         """All tables with so many rows and columns."""
         check_prime(prime)
         check_from_to(side, 1, MAX_SIDE)
-        return cls(prime, table_of_places(full_places(side)))
+        places = full_places(side)
+        return sound_ring(prime, table_of_places(places), one_of_places(places))
 
     @classmethod
     def stairs(cls, prime, side):
         """All tables with so many rows and columns that are 0 below the places with equal indices."""
         check_prime(prime)
         check_from_to(side, 1, MAX_SIDE)
-        return cls(prime, table_of_places(stairs_places(side)))
+        places = stairs_places(side)
+        return sound_ring(prime, table_of_places(places), one_of_places(places))
 
     @classmethod
     def of_moves(cls, prime, moves):
@@ -124,7 +172,8 @@ class Ring:
         group = group_of(moves, MAX_SIZE)
         if len(group) > MAX_SIZE:
             raise TooMany(MAX_SIZE)
-        return cls(prime, table_of_group(group))
+        # The renaming that moves nothing is the least one.
+        return sound_ring(prime, table_of_group(group), unit_row(len(group), 0))
 
     @classmethod
     def of_poly(cls, prime, poly):
@@ -132,7 +181,7 @@ class Ring:
         check_prime(prime)
         if not is_some_poly(prime, poly, MAX_SIZE) or len(poly) < 2 or poly[-1] != 1:
             raise InvalidPoly("no monic polynomial of a degree from 1 to 9")
-        return cls(prime, table_of_poly(prime, poly))
+        return sound_ring(prime, table_of_poly(prime, poly), unit_row(len(poly) - 1, 0))
 
     @classmethod
     def both(cls, one, other):
@@ -143,7 +192,7 @@ class Ring:
             raise InvalidOperation("the rings have unlike primes")
         if one.size + other.size > MAX_SIZE:
             raise TooMany(MAX_SIZE)
-        return cls(one.prime, table_of_both(one.table, other.table))
+        return sound_ring(one.prime, table_of_both(one.table, other.table), one.one + other.one)
 
     def __contains__(self, value):
         return is_row(self._prime, len(self._table), value)
@@ -153,6 +202,15 @@ class Ring:
 
     def __str__(self):
         return f"ring of {len(self._table)} over {self._prime}"
+
+
+def sound_ring(prime, table, one):
+    """The ring of a table, which is known to be that of a ring with this one."""
+    ring = Ring(prime, LEAST_TABLE)
+    ring._table = table
+    ring._one = one
+    ring._lines = lines_of_products(table)
+    return ring
 
 
 def check_ring(ring):
@@ -207,7 +265,7 @@ def opposite(ring):
     """The ring with all products the other way round."""
     check_ring(ring)
     table = ring.table
-    return Ring(ring.prime, tuple([tuple([rows[at] for rows in table]) for at in range(ring.size)]))
+    return sound_ring(ring.prime, tuple([tuple([rows[at] for rows in table]) for at in range(ring.size)]), ring.one)
 
 
 def rebased(ring, table):
@@ -219,8 +277,9 @@ def rebased(ring, table):
     undone = undone_rows(prime, table)
     if undone is None:
         raise Refused(("singular",))
-    products = [[ring.product(one, other) for other in table] for one in table]
-    return Ring(prime, tuple([rows_followed(prime, rows, undone) for rows in products]))
+    products = [[ring.bare_product(one, other) for other in table] for one in table]
+    made = tuple([rows_followed(prime, rows, undone) for rows in products])
+    return sound_ring(prime, made, combined(prime, ring.size, ring.one, undone))
 
 
 def subring_made(ring, members):
@@ -231,7 +290,7 @@ def subring_made(ring, members):
     grown = reduced(ring.prime, (ring.one,) + members)
     while len(grown) > len(found):
         found = grown
-        products = tuple([ring.product(one, other) for one in found for other in found])
+        products = tuple([ring.bare_product(one, other) for one in found for other in found])
         grown = reduced(ring.prime, found + products)
     return found
 
@@ -241,7 +300,7 @@ def is_subring(ring, value):
     check_ring(ring)
     if not is_base(ring.prime, ring.size, value) or not is_within(ring.prime, value, (ring.one,)):
         return False
-    return is_within(ring.prime, value, [ring.product(one, other) for one in value for other in value])
+    return is_within(ring.prime, value, [ring.bare_product(one, other) for one in value for other in value])
 
 
 def ring_of_subring(ring, space):
@@ -250,4 +309,5 @@ def ring_of_subring(ring, space):
     check_member_space(ring, space)
     if not is_subring(ring, space):
         raise Refused(("no subring",))
-    return Ring(ring.prime, table_at(ring.prime, ring.table, space, list(steps_of(space))))
+    leads = leads_of(space)
+    return sound_ring(ring.prime, table_at(ring, space, leads), at_places(ring.one, leads))
