@@ -4,7 +4,7 @@ import itertools
 import unittest
 
 from tablerings.base.polys import first_irreducible, is_irreducible, poly_product
-from tablerings.base.spaces import does_hold, is_space, solution, space_meet, space_of, space_sum
+from tablerings.base.spaces import does_hold, solution, space_of, space_sum
 from tablerings.errors import InvalidOperation, InvalidSpace, Refused
 from tablerings.rings.full import (
     full_parts, idempotent_kinds, is_part_paper, kinds, nilpotent_number, part_entries, part_one, part_paper, unit_number,
@@ -384,8 +384,6 @@ class NotTrueTest(unittest.TestCase):
 
     def test_the_rings_of_the_examples(self):
         self.assertEqual([kinds(ring) for ring in (N4, V4)], [((1, 1),), ((1, 1),)])
-        self.assertTrue(is_space(2, 4, full_parts(F2)[0]))
-        self.assertEqual(space_meet(2, 6, radical(S3), radical(S3)), radical(S3))
 
 
 if __name__ == "__main__":

@@ -1,6 +1,7 @@
 """Rooms [9.1] to [9.6]."""
 
 import itertools
+import random
 import unittest
 
 from tablerings.base.spaces import space_meet, space_of, space_sum
@@ -281,7 +282,6 @@ class TurnedTest(unittest.TestCase):
 
 class RebasedTest(unittest.TestCase):
     def test_rebased(self):
-        import random
         for prime in PRIMES:
             for ring in room_rings(prime)[::2]:
                 for room in rooms_of(ring, 9):

@@ -119,6 +119,8 @@ def unlike_parts(prime, poly):
 def factor_pairs(prime, poly):
     """The ascending pairs of the monic irreducible factors of a polynomial other than 0 and how often they stand."""
     pairs = []
+    if len(poly) == 2:
+        return ((made_monic(prime, poly), 1),)
     for part in unlike_parts(prime, made_monic(prime, poly)):
         factor = power_root(prime, part)
         pairs.append((factor, (len(part) - 1) // (len(factor) - 1)))
