@@ -85,7 +85,7 @@ def least_parts(ring, nil, whole):
 
 
 def link(ring, nil, one, other):
-    """A pair of members whose products are the one and the other least idempotent; None if there is none."""
+    """A pair of members whose products are the one and the other least idempotent; None if they are unlike."""
     for back in corner(ring, other, one):
         # What is not in J leads each room of the one idempotent to one of the other, one to one.
         if not is_within(ring.prime, nil, (back,)):
@@ -105,17 +105,15 @@ def first_link(ring, nil, one, others, free):
 
 
 def links(ring, nil, ones, others):
-    """For each of the first least idempotents the index of one of the second ones, and a link to it.
+    """For each of the first least idempotents the index of a like one of the second ones, and a link to it.
 
-    Each of the second ones is taken at most once; None if some first one finds none.
+    Each of the second ones is taken once; there are as many of each likeness among both.
     """
     found = []
     free = list(range(len(others)))
     for one in ones:
         # Likeness goes on from one to the next, so it does not matter which of several like ones is taken.
         told = first_link(ring, nil, one, others, free)
-        if told is None:
-            return None
         free.remove(told[0])
         found.append(told)
     return found

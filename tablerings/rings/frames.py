@@ -106,12 +106,10 @@ def rank_in(prime, lines, member):
     return len(found.rows)
 
 
-def least_number(ring, member):
-    """The number of least idempotents that add up, with the products 0, to an idempotent."""
-    total = 0
-    for lines, degree in zip(lines_of_least(ring), frame_of(ring).degrees):
-        total = total + rank_in(ring.prime, lines, member) // degree
-    return total
+def least_numbers(ring, member):
+    """How many least idempotents of each likeness add up, with the products 0, to an idempotent."""
+    degrees = frame_of(ring).degrees
+    return [rank_in(ring.prime, lines, member) // degree for lines, degree in zip(lines_of_least(ring), degrees)]
 
 
 def blocks_of(ring):

@@ -4,7 +4,7 @@ from tablerings.base.checks import is_integer
 from tablerings.base.lines import is_within, row_less, row_times, zero_row
 from tablerings.errors import InvalidOperation, Refused
 from tablerings.rings.corners import least_parts, links, sum_of_all
-from tablerings.rings.frames import central_sums, frame_of, least_number, nil_of
+from tablerings.rings.frames import central_sums, frame_of, least_numbers, nil_of
 from tablerings.rings.rings import check_member, check_ring
 
 
@@ -22,7 +22,7 @@ def is_idempotent(ring, value):
 def is_least_idempotent(ring, value):
     """Whether a value is a least idempotent."""
     check_ring(ring)
-    return value in ring and is_square_of_itself(ring, value) and least_number(ring, value) == 1
+    return value in ring and is_square_of_itself(ring, value) and sum(least_numbers(ring, value)) == 1
 
 
 def raised(ring, member):
@@ -79,12 +79,10 @@ def check_idempotents(ring, one, other):
 def like_paper(ring, one, other):
     """Two members whose products are the one and the other idempotent, or None."""
     check_idempotents(ring, one, other)
-    nil = nil_of(ring)
-    ones = least_parts(ring, nil, one)
-    others = least_parts(ring, nil, other)
-    found = links(ring, nil, ones, others)
-    if found is None or len(ones) != len(others):
+    if least_numbers(ring, one) != least_numbers(ring, other):
         return None
+    nil = nil_of(ring)
+    found = links(ring, nil, least_parts(ring, nil, one), least_parts(ring, nil, other))
     return (sum_of_all(ring, [told[1] for told in found]), sum_of_all(ring, [told[2] for told in found]))
 
 

@@ -111,15 +111,11 @@ def nil_paper(ring, members):
     """A paper that the ideal made by some members has a power 0, or that a member of them stays."""
     check_ring(ring)
     check_members(ring, members)
-    low = ()
+    nil = nil_of(ring)
     for at, member in enumerate(members):
-        # Sums of members of J are in J, so just what is no such sum is tried.
-        if not is_within(ring.prime, low, (member,)):
-            found = settler(ring, member)
-            if found is not None:
-                return ("stays", at, found)
-            low = reduced(ring.prime, low + (member,))
-    return ("power", power_zero(ring, ideal_made(ring, low)))
+        if not is_within(ring.prime, nil, (member,)):
+            return ("stays", at, settler(ring, member))
+    return ("power", power_zero(ring, ideal_made(ring, members)))
 
 
 def is_staying(ring, members, at, by):

@@ -26,7 +26,7 @@ def settled_power(ring, member):
 
 def settler(ring, member):
     """A member whose product with the given one is an idempotent other than 0, or None if the given one is in J."""
-    # If no base member would do, the traces of [5.2] would all be such that the member is in J.
+    # If all base members led to a power 0, the traces of [5.2] would be such that the member is in J.
     for maker in unit_rows(ring.size):
         product = ring.bare_product(maker, member)
         if not has_power_zero(ring, product):
