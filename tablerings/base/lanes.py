@@ -97,10 +97,6 @@ class Echelon:
                 return
             self.take(number)
 
-    def leads(self):
-        """The lanes of the leads, the first place ahead."""
-        return sorted(self.rows, reverse=True)
-
     def cleared(self, rows, number):
         """The number less multiples of rows, each with 0 at the leads of the others, so that it has 0 there, too."""
         prime, total, terms = self.lanes.modulus, number, 0

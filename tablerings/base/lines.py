@@ -83,7 +83,7 @@ def echelon_of(prime, width, rows):
     """The echelon of the sums of some rows of the width."""
     found = Echelon(prime, width)
     # Rows that are told more than once, as products often are, are added once.
-    found.take_all([packed(row) for row in {row: True for row in rows}])
+    found.take_all([packed(row) for row in {some: True for some in rows}])
     return found
 
 
@@ -103,7 +103,7 @@ def remainder(prime, base, row):
 def is_within(prime, base, rows):
     """Whether all of some rows lie in the space of a reduced base."""
     leads = leads_of(base)
-    for row in {row: True for row in rows}:
+    for row in {some: True for some in rows}:
         if combined(prime, len(row), at_places(row, leads), base) != row:
             return False
     return True

@@ -56,7 +56,7 @@ def power_trace_rows(prime, tables, space, number):
     known = {(zero_row(size),) * size: 0}
     rows = []
     for numbers in space:
-        line = [lanes.settled(summed(numbers, [table[at] for table in lines])) for at in range(size)]
+        line = [lanes.settled(summed(numbers, [some[at] for some in lines])) for at in range(size)]
         values = []
         for table in tables:
             made = tuple([unpacked(size, lanes.settled(summed(row, line))) for row in table])

@@ -121,7 +121,7 @@ def blocks_of(ring):
             if names[one] != names[other] and corner(ring, ahead, behind):
                 old = names[other]
                 names = [names[one] if name == old else name for name in names]
-    lots = [tuple([at for at, other in enumerate(names) if other == name]) for name in sorted(set(names))]
+    lots = [tuple([at for at, some in enumerate(names) if some == name]) for name in sorted(set(names))]
     return tuple(sorted(lots))
 
 

@@ -71,7 +71,7 @@ def times_of(part, room):
     # The self maps modulo the nil ones are a field, so what a map makes of one vector that no nil map leads to tells
     # whether it is nil; the unit vector at a place that is no lead is such a vector.
     vector = [at for at in range(size) if size - 1 - at not in gone][0]
-    back = [[packed(row) for row in table] for table in map_tables(room, part)]
+    back = [[packed(line) for line in table] for table in map_tables(room, part)]
     found = Echelon(part.ring.prime, size * len(back))
     for row in {table[vector]: True for table in map_tables(part, room)}:
         found.take(joined(size, [low.cleared(gone, part.lanes.led(lines, row)) for lines in back]))
