@@ -161,7 +161,10 @@ class LanguageTest(unittest.TestCase):
         for place, _, node in nodes(ast.Constant):
             self.assertNotIsInstance(node.value, (float, complex, bytes), place)
         for place, _, node in nodes(ast.FunctionDef):
-            self.assertIsNone(node.args.vararg or node.args.kwarg, place)
+            self.assertIsNone(node.args.kwarg, place)
+            if node.args.vararg is not None:
+                self.assertTrue(isinstance(node.above, ast.ClassDef) and not node.name.startswith("__"), place)
+                self.assertTrue(node.args.args and node.args.vararg.annotation is None, place)
             self.assertTrue(not node.decorator_list or isinstance(node.above, ast.ClassDef), place)
         for place, _, node in nodes(ast.Call):
             self.assertFalse(any(isinstance(one, ast.Starred) for one in node.args), place)
@@ -210,6 +213,68 @@ class LanguageTest(unittest.TestCase):
         self.assertEqual(stored & told, set())
         for place, _, node in nodes(ast.Attribute):
             self.assertIn(node.attr, stored | told | METHODS, place)
+
+    def test_a_package_with_items(self):
+        """L2, L5, L17: what is barred where a class has items and is iterated over."""
+        told = {low.name: low for _, _, node in nodes(ast.ClassDef) for low in node.body if isinstance(low, ast.FunctionDef)}
+        self.assertIn("__getitem__", told)
+        self.assertEqual(ast.unparse(told["__iter__"].body[-1]), "return iter(self._kept)")
+        self.assertEqual(ast.unparse(told["__len__"].body[-1]), "return len(self._kept)")
+        for place, _, node in nodes(ast.Call):
+            if isinstance(node.func, ast.Name) and node.func.id == "reversed":
+                inner = node.args[0]
+                self.assertTrue(isinstance(inner, ast.Call) and inner.func.id in ("list", "tuple", "sorted", "range"), place)
+            if isinstance(node.func, ast.Name) and node.func.id in ("iter", "next"):
+                self.assertEqual(node.above.above.name, "__iter__", place)
+        for path in FILES:
+            text = path.read_text()
+            self.assertFalse(any(word in text for word in ("(type)", "Meta", "metaclass=", "itertools")), path)
+        stored = {node.attr for _, _, node in nodes(ast.Attribute) if isinstance(node.ctx, ast.Store)}
+        self.assertTrue({"keys", "values", "items"}.isdisjoint(stored | set(told)))
+
+    def test_properties(self):
+        """L5, L18: the name of a property is no name of a method, and no attribute."""
+        properties, methods = set(), set()
+        for _, _, node in nodes(ast.ClassDef):
+            for low in node.body:
+                if isinstance(low, ast.FunctionDef):
+                    marked = [mark.id for mark in low.decorator_list]
+                    (properties if marked == ["property"] else methods).add(low.name)
+        self.assertEqual(properties & methods, set())
+        stored = {node.attr for _, _, node in nodes(ast.Attribute) if isinstance(node.ctx, ast.Store)}
+        self.assertEqual(properties & stored, set())
+
+    def test_what_stands_at_module_level(self):
+        """L15: no list or dict in another one, and none is changed."""
+        for path, tree in TREES.items():
+            plain = {}
+            for node in tree.body:
+                if isinstance(node, ast.Assign):
+                    inside = [low for low in ast.walk(node.value) if low is not node.value]
+                    self.assertFalse(any(isinstance(low, (ast.List, ast.Dict)) for low in inside), path)
+                    if isinstance(node.value, (ast.List, ast.Dict)):
+                        plain[node.targets[0].id] = node
+            for node in ast.walk(tree):
+                if isinstance(node, ast.Name) and isinstance(node.ctx, ast.Load) and node.id in plain:
+                    above = node.above
+                    read = isinstance(above, ast.Subscript) and above.value is node and isinstance(above.ctx, ast.Load)
+                    asked = isinstance(above, ast.Compare) and isinstance(above.ops[0], (ast.In, ast.NotIn))
+                    self.assertTrue(read or asked, f"{path.name}:{node.lineno}")
+
+    def test_names_in_nested_comprehensions(self):
+        """L7: a comprehension inside another one, or in a nested function, has names of its own."""
+        kinds = (ast.ListComp, ast.DictComp)
+        for place, _, node in nodes(kinds):
+            names = self.names_of(node)
+            above = node.above
+            while not isinstance(above, (ast.FunctionDef, ast.Module)):
+                if isinstance(above, kinds):
+                    self.assertTrue(names.isdisjoint(self.names_of(above)), place)
+                above = above.above
+
+    def names_of(self, node):
+        """The names of the variables of a comprehension."""
+        return {low.id for part in node.generators for low in ast.walk(part.target) if isinstance(low, ast.Name)}
 
     def test_calls_of_methods(self):
         """L25"""

@@ -133,14 +133,18 @@ def meet_rows(prime, width, one, other):
     return echelon_of(prime, 2 * width, rows).base(width)
 
 
-def solved(prime, rows, row):
-    """A row that a table leads to the given one, or None."""
-    count = len(rows)
-    found = told_echelon(prime, len(row), [packed(line) for line in rows])
-    rest = found.rest(packed(row) << count * LANE)
+def solved_numbers(prime, width, numbers, goal):
+    """The residues with which some rows of the width add up to another one, all told by numbers, or None."""
+    count = len(numbers)
+    rest = told_echelon(prime, width, numbers).rest(goal << count * LANE)
     if rest >> count * LANE:
         return None
     return tuple([-number % prime for number in unpacked(count, rest)])
+
+
+def solved(prime, rows, row):
+    """A row that a table leads to the given one, or None."""
+    return solved_numbers(prime, len(row), [packed(line) for line in rows], packed(row))
 
 
 def undone_rows(prime, rows):

@@ -96,7 +96,7 @@ def poly_of_table(prime, poly, table):
     count = len(table)
     units = unit_rows(count)
     value = [zero_row(count)] * count
-    for number in reversed(poly):
+    for number in poly[::-1]:
         stepped_on = rows_followed(prime, value, table)
         value = [row_sum(prime, stepped_on[at], row_times(prime, number, units[at])) for at in range(count)]
     return tuple(value)

@@ -31,7 +31,7 @@ def poly_led(prime, poly, lines, row):
     width = len(row)
     lanes = Lanes(prime, width)
     start, value = packed(row), 0
-    for number in reversed(poly):
+    for number in poly[::-1]:
         value = lanes.settled(lanes.led(lines, unpacked(width, value)) + number * start)
     return unpacked(width, value)
 

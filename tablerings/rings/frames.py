@@ -4,6 +4,7 @@ from tablerings.base.lanes import Echelon, Lanes, packed, summed
 from tablerings.base.lines import at_places, is_within, leads_of, reduced, remainder, unit_rows
 from tablerings.base.traces import trace_spaces_of
 from tablerings.rings.corners import corner, corner_of, least_parts, rows_modulo, sum_of_all
+from tablerings.rings.ideals import product_rows
 
 
 class Frame:
@@ -34,6 +35,16 @@ def trace_spaces_kept(ring):
 def nil_of(ring):
     """The space J."""
     return trace_spaces_kept(ring)[-1]
+
+
+def nil_square(ring):
+    """The space J J."""
+    return reduced(ring.prime, product_rows(ring, nil_of(ring), nil_of(ring)))
+
+
+def arrow_rows(ring, square, one, other):
+    """Members of J between two idempotents that are, with those of J J there, all of them."""
+    return rows_modulo(ring.prime, corner_of(ring, square, one, other), corner_of(ring, nil_of(ring), one, other))
 
 
 def lots_of(ring, nil, parts):
@@ -77,8 +88,7 @@ def made_frame(ring):
     low = [products_before(ring, nil, head) for head in heads]
     degrees = [len(corner(ring, head, head)) - len(corner_of(ring, nil, head, head)) for head in heads]
     least = tuple([least_tables(ring, high, below) for high, below in zip(free, low)])
-    squares = reduced(ring.prime, [ring.bare_product(one, other) for one in nil for other in nil])
-    return Frame(parts, lots, tuple(degrees), free, least, tuple(rows_modulo(ring.prime, squares, nil)))
+    return Frame(parts, lots, tuple(degrees), free, least, tuple(rows_modulo(ring.prime, nil_square(ring), nil)))
 
 
 def frame_of(ring):

@@ -17,14 +17,25 @@ def lines_of_products(table):
     return [[packed(row) for row in rows] for rows in table]
 
 
+def wholes_of(lines):
+    """For each base member the number of all its products with others behind it, side by side."""
+    return [joined(len(lines), line) for line in lines]
+
+
+def columns_of(table):
+    """For each base member and each place the numbers that its products have there, each at the end of its lanes."""
+    places = range(len(table))
+    return [[joined(len(table), [row[at] for row in rows]) for at in places] for rows in table]
+
+
 def ungrouped(prime, table):
     """The least triple of base members whose products do not group, or None."""
     size = len(table)
     lanes = Lanes(prime, size * size)
     lines = lines_of_products(table)
     # Both products of a pair with all third members are compared at once, the third members side by side.
-    wholes = [joined(size, line) for line in lines]
-    columns = [[joined(size, [row[at] for row in rows]) for at in range(size)] for rows in table]
+    wholes = wholes_of(lines)
+    columns = columns_of(table)
     for one in range(size):
         for other in range(size):
             first = lanes.settled(summed(table[one][other], wholes))

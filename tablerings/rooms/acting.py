@@ -5,7 +5,7 @@ table, and `lanes`, which takes the lanes of vectors modulo the prime.
 """
 
 from tablerings.base.lanes import Echelon, packed, summed, unpacked
-from tablerings.base.lines import at_places, leads_of
+from tablerings.base.lines import at_places, leads_of, unit_rows
 
 
 def orbit(room, vector):
@@ -30,6 +30,18 @@ def spun(room, vectors):
     for vector in vectors:
         found.take_all(orbit(room, vector))
     return found
+
+
+def falling_bases(room, tables):
+    """The base of all vectors, that of what some tables, told by their lines, make of them, and so on, without ()."""
+    bases, base = [], unit_rows(room.lanes.width)
+    while base:
+        bases.append(base)
+        found = empty_echelon(room)
+        for lines in tables:
+            found.take_all([room.lanes.led(lines, row) for row in base])
+        base = found.base(room.lanes.width)
+    return bases
 
 
 def is_closed(room, base):

@@ -41,12 +41,17 @@ def least_counts(room):
     return tuple([len(base) // degree for base, degree in zip(corner_rows(room), degrees)])
 
 
+def arrow_lines(room):
+    """The rows of the tables of members that are, with J J, all of J."""
+    return [member_lines(room, arrow) for arrow in frame_of(room.ring).arrows]
+
+
 def nil_echelon(room):
     """The echelon of what members of J make of vectors."""
     found = empty_echelon(room)
     # Members of J are sums of products of these members and any members behind them.
-    for arrow in frame_of(room.ring).arrows:
-        found.take_all(member_lines(room, arrow))
+    for lines in arrow_lines(room):
+        found.take_all(lines)
     return found
 
 

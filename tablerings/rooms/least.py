@@ -7,8 +7,8 @@ from tablerings.base.splitting import first_told, order_poly
 from tablerings.errors import Refused
 from tablerings.rings.frames import frame_of
 from tablerings.rings.rings import check_ring
-from tablerings.rooms.acting import empty_echelon, is_closed, member_lines, spun
-from tablerings.rooms.covers import corner_rows, least_counts, nil_echelon
+from tablerings.rooms.acting import falling_bases, is_closed, member_lines, spun
+from tablerings.rooms.covers import arrow_lines, corner_rows, least_counts, nil_echelon
 from tablerings.rooms.homs import is_field_map, self_rows, table_of_row
 from tablerings.rooms.rooms import Room, check_room, is_subspace, sound_room, turned_room
 
@@ -117,21 +117,14 @@ def list_of(room):
 
 def falling_sizes(room, tables):
     """By how much the spaces fall that some tables, told by their lines, make of all vectors, time after time."""
-    sizes, base = [], unit_rows(room.size)
-    while base:
-        found = empty_echelon(room)
-        for lines in tables:
-            found.take_all([room.lanes.led(lines, row) for row in base])
-        lower = found.base(room.size)
-        sizes.append(len(base) - len(lower))
-        base = lower
-    return tuple(sizes)
+    sizes = [len(base) for base in falling_bases(room, tables)] + [0]
+    return tuple([one - other for one, other in zip(sizes, sizes[1:])])
 
 
 def layers(room):
     """The layers of a room."""
     check_room(room)
-    return falling_sizes(room, [member_lines(room, arrow) for arrow in frame_of(room.ring).arrows])
+    return falling_sizes(room, arrow_lines(room))
 
 
 def socle_layers(room):

@@ -1,0 +1,1 @@
+"""Desks that keep rooms by names, and sayings that stay true of them."""

@@ -1,0 +1,1 @@
+"""Full tables over fields."""

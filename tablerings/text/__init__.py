@@ -1,0 +1,1 @@
+"""Spaces, rings and rooms as texts."""

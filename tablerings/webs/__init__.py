@@ -1,0 +1,1 @@
+"""Webs of arrows, their words, and the rings that they tell."""
