@@ -56,6 +56,28 @@ FUNCTIONS = {
     "tablerings.rooms.pulled": (
         "pulled(room)", "pulled_numbers(room, steps)", "pulled_length(room)", "lift_number(room, further, step)",
         "join_space(room, further)", "plain_joins(room, further)", "joined_room(room, further, join)"),
+    "tablerings.rings.changes": (
+        "derivations(ring)", "inner_derivations(ring)", "is_derivation(ring, value)", "splitter(ring)",
+        "is_splitter(ring, value)", "change_of(ring, table)", "is_closed(ring, value)", "change_source(ring, row)",
+        "change_sizes(ring)", "lift_ring(ring, row)"),
+    "tablerings.webs.webs": (
+        "web_ring(prime, points, arrows, words, depth)", "web_paths(prime, points, arrows, words, depth)",
+        "is_basic(ring)", "basic_ring(ring)", "arrow_numbers(ring, some)", "picture(ring)", "is_picture(ring, value)"),
+    "tablerings.rings.forms": (
+        "form_value(ring, form, member)", "form_table(ring, form)", "form_of(ring)", "is_form(ring, value)",
+        "even_form(ring)", "is_even_form(ring, value)", "no_form_paper(ring)", "is_no_form_paper(ring, value)",
+        "turn(ring, form)", "turn_by(ring, form, unit)"),
+    "tablerings.full.fields": (
+        "field_ring(prime, degree)", "full_over(prime, degree, side)", "full_kind(ring)",
+        "double_centralizer(ring, members)", "is_leading_map(ring, one, other)", "leading_unit_of(ring, one, other)",
+        "is_leading_unit_of(ring, one, other, value)", "pair_number(prime, degree, side)", "pairs_counted(ring)",
+        "signed_sum(ring, members)"),
+    "tablerings.rooms.lines": (
+        "is_line_ring(ring)", "ladder_lengths(ring)", "next_heads(ring)", "stretches(room)",
+        "room_of_stretch(ring, head, length)", "stretch_maps(ring, one, other)"),
+    "tablerings.text.texts": (
+        "write_space(prime, width, space)", "write_ring(ring)", "write_room(room)", "read_space(text)",
+        "read_ring(text)", "read_room(text)"),
 }
 
 CONSTANTS = {
@@ -68,6 +90,12 @@ CONSTANTS = {
     "tablerings.rooms.maps": {"MAX_MAP": 144, "MAX_SELF": 40},
     "tablerings.rooms.free": {"MAX_COVER": 40},
     "tablerings.rooms.pulled": {"MAX_PULLED": 6, "MAX_STEPS": 8, "MAX_JOINED": 150},
+    "tablerings.rings.changes": {"MAX_CHANGED": 4},
+    "tablerings.webs.webs": {"MAX_POINTS": 9, "MAX_ARROWS": 9, "MAX_DEPTH": 10, "MAX_PATHS": 200},
+    "tablerings.rings.forms": {"MAX_TRIED": 5000},
+    "tablerings.full.fields": {"MAX_TRIED": 5000, "MAX_FACTORS": 6},
+    "tablerings.desk.desk": {"MAX_NAME": 8, "MAX_SAID": 20, "MAX_WIDE": 12},
+    "tablerings.text.texts": {"MAX_TEXT": 20000},
 }
 
 CLASSES = {
@@ -80,6 +108,15 @@ CLASSES = {
     "tablerings.rooms.rooms": ("Room", "(ring, tables)", (
         "led_by(self, member, vector)",), ("own(cls, ring)", "nothing(cls, ring)", "side_by_side(cls, room, further)"),
         ("__eq__", "__str__"), ("ring", "size", "tables")),
+    "tablerings.desk.desk": ("Desk", "(ring)", (
+        "do(self, *deeds)", "say(self, saying)", "unsay(self, saying)", "is_true(self, value)", "undo(self, steps=1)",
+        "twin(self)"), (),
+        ("__contains__", "__getitem__", "__len__", "__iter__", "__eq__", "__str__"), ("ring", "kept", "sayings", "past")),
+}
+
+ERRORS = {
+    "RingError": ValueError, "InvalidNumber": IndexError, "UnknownName": KeyError, "TooMany": OverflowError,
+    "Refused": ArithmeticError, "NothingToUndo": LookupError,
 }
 
 
@@ -118,10 +155,13 @@ class InterfaceTest(unittest.TestCase):
     def sample(self, word):
         """An object of a class."""
         ring = importlib.import_module("tablerings.rings.rings").Ring.full(2, 2)
+        if word == "Desk":
+            return importlib.import_module("tablerings.desk.desk").Desk(ring)
         return ring if word == "Ring" else importlib.import_module("tablerings.rooms.rooms").Room.own(ring)
 
     def test_properties_are_not_set(self):
-        for word, names in (("Ring", ("prime", "size", "table", "one", "many")), ("Room", ("ring", "size", "tables"))):
+        for word, names in (("Ring", ("prime", "size", "table", "one", "many")), ("Room", ("ring", "size", "tables")),
+                            ("Desk", ("ring", "kept", "sayings", "past"))):
             for name in names:
                 with self.assertRaises(AttributeError):
                     setattr(self.sample(word), name, 1)
@@ -131,7 +171,20 @@ class InterfaceTest(unittest.TestCase):
         names = [name for name, value in vars(errors).items() if isinstance(value, type)]
         self.assertEqual(len(names), 15)
         for name in names:
-            self.assertEqual(getattr(errors, name).__module__, "tablerings.errors")
+            known = getattr(errors, name)
+            self.assertEqual(known.__module__, "tablerings.errors")
+            self.assertEqual(known.__bases__, (ERRORS.get(name, errors.RingError),))
+
+    def test_whole(self):
+        """All names that the document lists stand in the tables above, each in one module alone."""
+        told = [row[:row.index("(")] for rows in FUNCTIONS.values() for row in rows]
+        self.assertEqual([len(told), len(set(told)), len(FUNCTIONS), len(CONSTANTS), len(CLASSES)], [169, 169, 19, 15, 3])
+
+    def test_only_what_is_iterated_over(self):
+        for word in ("Ring", "Room"):
+            with self.assertRaises(TypeError):
+                iter(self.sample(word))
+        self.assertEqual(list(self.sample("Desk")), [])
 
 
 if __name__ == "__main__":

@@ -169,7 +169,7 @@ def picture(ring):
     told, web = pictured(ring)
     some = frame_of(ring).parting
     words = []
-    # What is led to 0 is a sum of paths with two or more arrows, and so is each row of its base, with one start and end.
+    # What is led to 0 is a sum of paths with two or more arrows; each row of its base has paths with one start and end.
     for row in kernel_rows(ring.prime, path_members(ring, web, some, told)):
         pairs = sorted([(web.paths[at][1], number) for at, number in enumerate(row) if number])
         words.append({walk: times for walk, times in pairs})
