@@ -4,6 +4,7 @@ import itertools
 import random
 
 from tablerings.base.polys import first_irreducible, poly_product
+from tablerings.desk.desk import Desk
 from tablerings.errors import RingError
 from tablerings.rings.rings import Ring, opposite, rebased
 
@@ -27,6 +28,7 @@ def junk():
         [], [0], [(1, 0)], {}, {"a": 1}, {(1, 0): ()}, deep(8, 1), deep(7, ()), (None,), ((None,),), (True,), ((True,),),
         ("01",), (("0", "1"),), ([1, 0],), ((1, [0]),), ((1, 0), [0, 1]), ({},), ({"a": (1,)}, 1), ((10 ** 99,),),
         (-1, 0), ((0, -1),), F2, (F2,), ((F2, K9),), RingError("no ring"), ((1, 0), (1,)), ((), ()), (((1,), (0, 1)),),
+        Desk(K9), (Desk(K9),), [Desk(F2)],
     ]
 
 

@@ -9,7 +9,7 @@ from tablerings.errors import InvalidNumber, InvalidOperation, InvalidRing, Noth
 from tablerings.rings.rings import Ring
 from tablerings.rooms.free import free_rooms
 from tablerings.rooms.least import least_rooms
-from tablerings.rooms.maps import alike_map
+from tablerings.rooms.maps import alike_map, map_number
 from tablerings.rooms.rooms import Room, quotient_room, rebased_room, room_killers
 from tests.desk_samples import Chance, SlowDesk, is_deed, is_saying, names_in
 from tests.room_samples import low_room_rings, rebased_by_chance, rooms_of, swap_ring, twin_arrows, unit_rows
@@ -161,7 +161,8 @@ class DeskTest(unittest.TestCase):
                            ("put", "A", own), ("put", "", own), ("put", "abcdefghi", own), ("put", "a b", own), ("put", "a1", own), ("put", 1, own),
                            ("put", ("a",), own), ("put", None, own), ("Put", "a", own), ("puts", "a", own), (None, "a", own), (("put",), "a", own),
                            ("take",), ("take", "a", "a"), ("take", "\u00e9"), ("take", "a\n"), ("same", "a"), ("same", "a", "B"), ("same", "_", "a"),
-                           ("join", "a", "a"), ("join", "a", "a", "a", "a"), ("join", "a", "a", None), ("join", "a", 0, "a"), ("", "a"), (),
+                           ("join", "a", "a"), ("join", "a", "a", "a", "a"), ("join", "a", "a", None), ("join", "a", 0, "a"),
+                           ("join", "A", "a", "a"), ("same", 1, "a"), ("", "a"), (),
                            ("undo", "a"), ("size", "a", 1)]
         for word in ("below", "above"):
             values += [(word, "a"), (word, "a", None), (word, "a", [(1,)]), (word, "a", (1,)), (word, "a", ((prime,),)), (word, "a", ((-1,),)),
@@ -303,6 +304,28 @@ class SayingTest(unittest.TestCase):
             for saying in (("alike", "c", "e"), ("maps", "a", "d", 84), ("maps", "d", "d", 144), ("size", "d", 12), ("killed", "d", (0,))):
                 self.assertIs(desk.is_true(saying), True)
                 desk.say(saying)
+
+    def test_just_forty_self_maps(self):
+        """Forty are let, forty-one are not; so many can be those of an unsplittable room, too."""
+        for prime in PRIMES:
+            field = Ring.full(prime, 1)
+            ring = Ring.both(field, field)
+            one, other = least_rooms(ring)
+            desk = Desk(ring)
+            desk.do(("put", "a", one), ("put", "b", other), ("join", "c", "a", "a"), ("join", "c", "c", "a"), ("join", "d", "c", "c"),
+                    ("join", "e", "b", "b"), ("join", "d", "d", "e"), ("join", "c", "c", "a"), ("join", "e", "e", "e"), ("join", "e", "e", "b"),
+                    ("join", "c", "c", "e"))
+            self.assertEqual([map_number(desk[name], desk[name]) for name in "dc"], [40, 41])
+            self.assertEqual([desk.is_true(("alike", name, name)) for name in "dc"], [True, False])
+            self.assertEqual([desk.is_true(("unlike", *names)) for names in ("da", "ad", "ca", "ac")], [True, True, False, False])
+            low = low_ring(prime, 3)
+            steps = unit_rows(12)[6:] + ((0,) * 12,) * 6
+            slow = unit_rows(12)[7:] + ((0,) * 12,) * 7
+            room = Room(low, (unit_rows(12), steps, slow))
+            desk = Desk(low)
+            desk.do(("put", "a", room), ("put", "b", least_rooms(low)[0]), ("put", "c", Room.own(low)))
+            self.assertEqual([map_number(room, room), desk.is_true(("unsplit", "a"))], [42, False])
+            self.assertEqual([desk.is_true(("unsplit", name)) for name in "bc"], [True, True])
 
     def test_broken_and_taken(self):
         for prime in PRIMES:

@@ -262,7 +262,7 @@ class EvenTest(unittest.TestCase):
     def test_even_forms(self):
         seen = {"form": 0, "none": 0, "many": 0}
         for prime in PRIMES:
-            for ring in with_bent(prime) + great_rings(prime) + turned(great_rings(prime), 7):
+            for ring in with_bent(prime) + turned(great_rings(prime), 7):
                 rows = even_rows(ring)
                 if prime ** len(rows) > 5000:
                     with self.assertRaises(TooMany) as caught:
@@ -277,7 +277,7 @@ class EvenTest(unittest.TestCase):
                     seen["form"] += 1
                 else:
                     # No row of them is a form, tried one by one.
-                    if prime ** len(rows) <= 400:
+                    if prime ** len(rows) <= 130:
                         for numbers in itertools.product(range(prime), repeat=len(rows)):
                             row = tuple(sum(a * some[k] for a, some in zip(numbers, rows)) % prime for k in range(ring.size))
                             self.assertIs(is_form(ring, row), False)

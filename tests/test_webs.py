@@ -201,6 +201,20 @@ class WebTest(unittest.TestCase):
             with self.assertRaises(TooMany) as caught:
                 web_ring(2, points, arrows, (), depth)
             self.assertEqual(caught.exception.most, 9 if path_number(points, arrows, depth) == 200 else 200)
+        further = [(points, arrows, depth + 1) for points, arrows, depth in found if path_number(points, arrows, depth + 1) > 200
+                   and path_number(points, arrows, depth) == 200]
+        self.assertTrue(further)
+        for points, arrows, depth in further[:20]:
+            with self.assertRaises(TooMany) as caught:
+                web_ring(2, points, arrows, (), depth)
+            self.assertEqual(caught.exception.most, 200)
+
+    def test_arrows_beyond_the_points(self):
+        for prime in PRIMES:
+            for points in (1, 2, 9):
+                for arrows in (((0, points),), ((points, 0),), ((points, points),), ((0, points + 1),), ((-1, 0),), ((0, 0), (0, points))):
+                    for call in (web_ring, web_paths):
+                        self.assertRaises(InvalidWeb, call, prime, points, arrows, (), 3)
 
     def test_many_words(self):
         words = tuple({walk: number} for walk in itertools.product(range(2), repeat=4) for number in (1, 2, 3, 4))[:64] * 3
@@ -303,10 +317,10 @@ class ArrowTest(unittest.TestCase):
 
 
 class PictureTest(unittest.TestCase):
-    def check_picture(self, ring):
+    def check_picture(self, ring, by_words=True):
         found = picture(ring)
         self.assertIs(is_picture(ring, found), True)
-        self.assertTrue(is_picture_by_words(ring, found))
+        self.assertTrue(not by_words or is_picture_by_words(ring, found))
         some, told, words, depth = found
         for word in words:
             self.assertEqual(list(word), sorted(word))
@@ -347,7 +361,7 @@ class PictureTest(unittest.TestCase):
                 if is_basic(ring):
                     self.check_picture(ring)
             ring = long_line(prime, 8)
-            self.assertEqual(self.check_picture(ring)[3], 7)
+            self.assertEqual(self.check_picture(ring, by_words=False)[3], 7)
             great = long_line(prime, 9)
             for call in (lambda: picture(great), lambda: is_picture(great, None), lambda: is_picture(great, picture(ring))):
                 with self.assertRaises(TooMany) as caught:
@@ -407,6 +421,16 @@ class PictureTest(unittest.TestCase):
         yield (some, tuple((j, i, member) for i, j, member in told), words, depth)
         yield (some, tuple((i, 10 ** 99, member) for i, _, member in told), words, depth)
         yield (some, tuple((i, j, ring.one) for i, j, _ in told), words, depth)
+        yield (some, tuple((len(some), j, member) for _, j, member in told), words, depth)
+        yield (some, tuple((i, len(some), member) for i, _, member in told), words, depth)
+        yield (some, tuple((-1, j, member) for _, j, member in told), words, depth)
+        yield (some, tuple((i, j) for i, j, _ in told), words, depth)
+        yield (some, tuple((i, j, member, 0) for i, j, member in told), words, depth)
+        yield (some, tuple([i, j, member] for i, j, member in told), words, depth)
+        yield (some, tuple((i, j, list(member)) for i, j, member in told), words, depth)
+        yield (some, tuple((i, j, member[1:]) for i, j, member in told), words, depth)
+        yield (some, tuple((i, j, None) for i, j, _ in told), words, depth)
+        yield (some, tuple(None for _ in told), words, depth)
         yield (some, tuple((i, j, told[0][2]) for i, j, _ in told), words, depth)
         yield (some, told, words)
         yield [some, told, words, depth]

@@ -180,8 +180,9 @@ class ConventionTest(unittest.TestCase):
         """[0.2]"""
         desk = Desk(F2)
         for known in (F2, Room.own(F2), desk):
-            for value in junk() + [F2, Room.own(F2), desk, Desk(K9), Room.own(K9), K9]:
-                same = type(value) is type(known) and (value is known or type(value) is not Desk and repr(value.__str__()) == repr(known.__str__()))
+            for value in junk() + [F2, Room.own(F2), desk, Desk(F2), Desk(K9), Room.own(K9), K9, Desk(U3)]:
+                # The rings are told apart by their texts, and so are the rooms and desks here.
+                same = type(value) is type(known) and str(value) == str(known)
                 self.assertIs(known == value, same)
                 self.assertIs(known != value, not same)
         for value in junk():

@@ -114,7 +114,7 @@ def stretches(room):
 
 
 def check_length(ring, head, length):
-    """Refuse a ring that is not of one line, or a stretch longer than the free room."""
+    """Refuse a ring that is not of one line, or a stretch that is longer than the free room."""
     check_lines(ring)
     if length > lengths_of(ring)[head]:
         raise InvalidOperation("longer than the free room")
@@ -145,7 +145,6 @@ def stretch_maps(ring, one, other):
     check_ring(ring)
     check_stretch(ring, one)
     check_stretch(ring, other)
-    check_lines(ring)
     for head, length in (one, other):
         check_length(ring, head, length)
     heights = range(1, min(one[1], other[1]) + 1)
