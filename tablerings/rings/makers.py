@@ -47,7 +47,8 @@ def group_of(moves, most):
     found = {fresh[0]: True}
     while fresh and len(found) <= most:
         grown = []
-        for old in fresh:
+        # A copy is walked, as the list that grows here is the one that is walked next.
+        for old in list(fresh):
             for move in moves:
                 product = moved(old, move)
                 if product not in found:
